@@ -1,0 +1,1 @@
+"""What can come of moving folders, in any tree whatever."""
