@@ -22,6 +22,14 @@ def is_item(house, value):
     return is_index(value, len(house[2]) + 1)
 
 
+def letting_rule(rules, item, start, end):
+    """Return the least index of a rule that lets an item go from one content to another, or None."""
+    for index, (mover, starts, ends) in enumerate(rules):
+        if mover == item and start in starts and end in ends:
+            return index
+    return None
+
+
 def _is_rule(house, value):
     if not isinstance(value, tuple) or len(value) != 3:
         return False

@@ -22,6 +22,47 @@ KINDS = '''
     ((2,), ((0,), (1,), (2,)), (1, 2))
 '''
 
+TREES = '''
+    >>> from movedfolders.trees import contents_of, let_moves, played
+    >>> shut, team, wide = (("set", 0, 0),), (("raise", 0, 1),), (("when", 0, 1, 1, ("set", 0, 2)),)
+    >>> house, rules = ((3,), (0,), (shut, team, wide)), ((2, ((0,),), ((1,),)),)
+    >>> tree = ((0, -1), (1, -1), (2, 0), (3, 2))
+    >>> (contents_of(house, tree), let_moves(house, rules, tree), played(house, rules, tree, ((2, 1),)))
+    (((0,), (0,), (0,), (0,)), ((2, 1),), ((0, -1), (1, -1), (2, 1), (3, 2)))
+'''
+
+PAIRS = '''
+    >>> from movedfolders.pairs import place_pairs, thing_pairs
+    >>> shut, team, wide = (("set", 0, 0),), (("raise", 0, 1),), (("when", 0, 1, 1, ("set", 0, 2)),)
+    >>> house, rules = ((3,), (0,), (shut, team, wide)), ((2, ((0,),), ((1,),)),)
+    >>> (place_pairs(house, rules), len(thing_pairs(house, rules, 2)))
+    ((((0,), (0,)), ((0,), (2,)), ((1,), (1,)), ((1,), (2,)), ((2,), (2,))), 6)
+'''
+
+TABLES = '''
+    >>> from movedfolders.pairs import place_pairs
+    >>> from movedfolders.tables import fewest
+    >>> first, second = (("when", 0, 5, 5, ("set", 0, 1)),), (("when", 0, 3, 3, ("set", 0, 1)), ("when", 0, 4, 4, ("set", 0, 2)))
+    >>> trap = ((6,), (0,), (first, second, (("raise", 0, 3),), (("raise", 0, 4),), (("raise", 0, 5),)))
+    >>> some = ((0, ((0,),), ((5,),)), (1, ((3,),), ((4,),)), (5, ((1,),), ((1,),)))
+    >>> (((0,), (2,)) in place_pairs(trap, some), fewest(trap, some, 5, (0,), (2,)))
+    (False, (3, 5))
+    >>> from movedfolders.tables import fewest, least_table
+    >>> shut, team, wide = (("set", 0, 0),), (("raise", 0, 1),), (("when", 0, 1, 1, ("set", 0, 2)),)
+    >>> house, rules = ((3,), (0,), (shut, team, wide)), ((2, ((0,),), ((1,),)),)
+    >>> (least_table(house, rules)[0][1], fewest(house, rules, 3, (0,), (2,)), fewest(house, rules, 3, (0,), (1,)))
+    (((0,), (2,), 1, 2), (1, 2), None)
+'''
+
+COURSES = '''
+    >>> from movedfolders.courses import course_cost, course_pair, used_rules
+    >>> shut, team, wide = (("set", 0, 0),), (("raise", 0, 1),), (("when", 0, 1, 1, ("set", 0, 2)),)
+    >>> house, rules = ((3,), (0,), (shut, team, wide)), ((2, ((0,),), ((1,),)),)
+    >>> course = ((("root",), (1, (0,)), (2, (0, 0, 1))), (2,))
+    >>> (course_pair(house, rules, 3, course), course_cost(house, rules, 3, course), used_rules(course))
+    (((0,), (2,)), (1, 2), (0,))
+'''
+
 
 class Examples(unittest.TestCase):
 
@@ -37,6 +78,18 @@ class Examples(unittest.TestCase):
 
     def test_kinds(self):
         self.check("kinds", KINDS)
+
+    def test_trees(self):
+        self.check("trees", TREES)
+
+    def test_pairs(self):
+        self.check("pairs", PAIRS)
+
+    def test_tables(self):
+        self.check("tables", TABLES)
+
+    def test_courses(self):
+        self.check("courses", COURSES)
 
     def test_readme(self):
         with open(README, encoding="utf-8") as file:

@@ -1,14 +1,19 @@
-"""Point 2: what holds for all calls of houses.py, kinds.py and rules.py."""
+"""Point 2: what holds for all calls of the functions that the interface lists."""
 
 import copy
 import importlib
 import inspect
 import unittest
 
-from movedfolders.errors import InvalidHouse, InvalidRules
+from movedfolders.courses import course_cost, course_for, course_pair, is_course, used_rules
+from movedfolders.errors import InvalidHouse, InvalidRules, InvalidTree
 from movedfolders.houses import contents, require_house
 from movedfolders.kinds import after, come_to, kind_table, row_to
+from movedfolders.pairs import place_pairs, thing_pairs
 from movedfolders.rules import require_rules
+from movedfolders.tables import fewest, is_closed, least_table
+from movedfolders.trees import contents_of, let_moves, played, require_tree
+from tests.samples import STAIRS, STAIRS_RULES, TRAP, TRAP_RULES
 from tests.support import HOUSE, RULES, THREE, TWO
 
 INTERFACE = (
@@ -19,17 +24,74 @@ INTERFACE = (
     ("movedfolders.kinds", "come_to", ("house",)),
     ("movedfolders.kinds", "row_to", ("house", "content")),
     ("movedfolders.rules", "require_rules", ("house", "value")),
+    ("movedfolders.trees", "require_tree", ("house", "value")),
+    ("movedfolders.trees", "contents_of", ("house", "tree")),
+    ("movedfolders.trees", "let_moves", ("house", "rules", "tree")),
+    ("movedfolders.trees", "played", ("house", "rules", "tree", "moves")),
+    ("movedfolders.pairs", "place_pairs", ("house", "rules")),
+    ("movedfolders.pairs", "thing_pairs", ("house", "rules", "item")),
+    ("movedfolders.tables", "least_table", ("house", "rules")),
+    ("movedfolders.tables", "fewest", ("house", "rules", "item", "a", "b")),
+    ("movedfolders.tables", "is_closed", ("house", "rules", "value")),
+    ("movedfolders.courses", "is_course", ("house", "rules", "item", "value")),
+    ("movedfolders.courses", "course_pair", ("house", "rules", "item", "course")),
+    ("movedfolders.courses", "course_cost", ("house", "rules", "item", "course")),
+    ("movedfolders.courses", "used_rules", ("course",)),
+    ("movedfolders.courses", "course_for", ("house", "rules", "item", "a", "b")),
 )
 
 SOME_RULES = (
     (HOUSE, RULES),
     (TWO, ((2, ((0, 1), (1, 3)), ((1, 0),)),)),
     (THREE, ((0, ((0, 0, 0),), ((1, 1, 1),)), (2, ((0, 0, 1),), ((0, 1, 0),)))),
+    (STAIRS, STAIRS_RULES),
+    (TRAP, TRAP_RULES),
 )
+
+TREE = ((2, 2), (0, -1), (1, 1), (0, 2), (2, 1))
 
 
 def calls(house, rules):
-    """Return calls for a house, each as (function, arguments by name)."""
+    """Return calls for a house and rules, each as (function, arguments by name)."""
+    return house_calls(house, rules) + tree_calls(house, rules) + pair_calls(house, rules)
+
+
+def tree_calls(house, rules):
+    tree = tuple((min(item, len(house[2])), above) for item, above in TREE)
+    both = {"house": house, "rules": rules, "tree": tree}
+    found = [
+        (require_tree, {"house": house, "value": tree}), (contents_of, {"house": house, "tree": tree}),
+        (let_moves, both), (played, {**both, "moves": ()}), (played, {**both, "moves": ((0, -2),)}),
+    ]
+    return found + [(played, {**both, "moves": (move,)}) for move in let_moves(house, rules, tree)]
+
+
+def pair_calls(house, rules):
+    both = {"house": house, "rules": rules}
+    table = least_table(house, rules)
+    found = [
+        (place_pairs, both), (least_table, both), (is_closed, {**both, "value": table}),
+        (is_closed, {**both, "value": list(table)}), (is_closed, {**both, "value": (table[0], [], table[2])}),
+    ]
+    for item in range(len(house[2]) + 1):
+        found.append((thing_pairs, {**both, "item": item}))
+        for a in contents(house)[:3]:
+            found += course_calls({**both, "item": item}, a, contents(house)[2 % len(contents(house))])
+    return found
+
+
+def course_calls(some, a, b):
+    found = [(fewest, {**some, "a": a, "b": b}), (course_for, {**some, "a": a, "b": b})]
+    course = course_for(some["house"], some["rules"], some["item"], a, b)
+    for value in (course, [course], (course, [[]])):
+        found.append((is_course, {**some, "value": value}))
+    if course is not None:
+        found += [(course_pair, {**some, "course": course}), (course_cost, {**some, "course": course})]
+        found.append((used_rules, {"course": course}))
+    return found
+
+
+def house_calls(house, rules):
     found = [
         (require_house, {"value": house}), (contents, {"house": house}), (kind_table, {"house": house}),
         (come_to, {"house": house}), (require_rules, {"house": house, "value": rules}),
@@ -38,6 +100,14 @@ def calls(house, rules):
         found.append((row_to, {"house": house, "content": content}))
         found.append((after, {"house": house, "content": content, "kinds": (1, 0, 1)}))
     return found
+
+
+def other_classes(answer):
+    """Return the classes in an answer that are none of those which the document names."""
+    if isinstance(answer, tuple):
+        inner = [other_classes(part) for part in answer]
+        return set().union({answer.__class__} - {tuple}, *inner)
+    return {answer.__class__} - {int, bool, str, None.__class__}
 
 
 class AllCalls(unittest.TestCase):
@@ -63,6 +133,9 @@ class AllCalls(unittest.TestCase):
         with self.assertRaises(InvalidRules) as caught:
             require_rules(value=[RULES], house=HOUSE)
         self.assertIsNone(caught.exception.index)
+        with self.assertRaises(InvalidTree) as caught:
+            require_tree(value=[TREE], house=HOUSE)
+        self.assertIsNone(caught.exception.index)
 
     def test_arguments_are_unchanged(self):
         for house, rules in SOME_RULES:
@@ -77,8 +150,10 @@ class AllCalls(unittest.TestCase):
         near = ((TWO[0], (0, 0), TWO[2]), (TWO[0], TWO[1], TWO[2][::-1]), (HOUSE[0], (2,), HOUSE[2]))
         for _ in range(2):
             for at, one in enumerate(SOME_RULES):
-                for other in near:
-                    for told, arguments in calls(other, ()):
+                # Other rules for the same house, and these rules turned round.
+                others = [(house, ()) for house in near] + [(one[0], ()), (one[0], one[1][::-1])]
+                for other in others:
+                    for told, arguments in calls(*other):
                         told(**arguments)
                 self.assertEqual([told(**arguments) for told, arguments in calls(*one)], wanted[at])
 
@@ -91,11 +166,7 @@ class AllCalls(unittest.TestCase):
     def test_answers_are_tuples_throughout(self):
         for house, rules in SOME_RULES:
             for told, arguments in calls(house, rules):
-                answer = told(**arguments)
-                if answer is not None:
-                    self.assertIs(answer.__class__, tuple)
-                    parts = [part for part in answer if not isinstance(part, int)]
-                    self.assertEqual([part for part in parts if part.__class__ is not tuple], [])
+                self.assertEqual(other_classes(told(**arguments)), set())
 
 
 if __name__ == "__main__":

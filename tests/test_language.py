@@ -132,6 +132,19 @@ class Language(unittest.TestCase):
             code = re.sub(r'"""[^"]*"""|#[^\n]*', "", text)
             self.assertEqual([w for w in re.findall(r"[A-Za-z_][A-Za-z0-9_]*", code) if w in WORDS], [], name)
 
+    def test_narrow_rules(self):
+        for name, _, tree in self.files:
+            for node in ast.walk(tree):
+                at = (name, getattr(node, "lineno", 0))
+                if isinstance(node, ast.BinOp) and isinstance(node.op, ast.Pow):
+                    self.assertIn(getattr(node.right, "value", None), range(65), at)
+                # Neither may stand beside what the document asks of a drive: its len, its in and its add.
+                self.assertNotIsInstance(node, ast.GeneratorExp, at)
+                if isinstance(node, ast.Attribute):
+                    self.assertNotIn(node.attr, ("add", "discard", "sort", "format", "format_map", "mro"), at)
+                if isinstance(node, ast.Constant) and isinstance(node.value, str):
+                    self.assertNotIn("%", node.value, at)
+
 
 if __name__ == "__main__":
     unittest.main()
