@@ -435,7 +435,17 @@ class NoTables(unittest.TestCase):
                 self.check(put(table, part, rows[:k] + (rows[k],) + rows[k:]))
             self.check(put(table, part, rows + rows[-1:]))
             # Nor are there two rows with other costs for the same parts.
-            self.check(put(table, part, rows[:1] + (rows[0][:-1] + (1,),) + rows[1:]))
+            for cost in ((0, 1), (1, 0), (1, 1), (BIG, BIG)):
+                self.check(put(table, part, rows[:1] + (rows[0][:-2] + cost,) + rows[1:]), HOUSE, ())
+                self.check(put(table, part, rows + (rows[-1][:-2] + cost,)), HOUSE, ())
+
+    def test_two_rows_of_which_nothing_asks_for_either(self):
+        house = ((3,), (0,), ((("set", 0, 1),),))
+        table = with_cost(full_table(house), 0, ((2,), (2,)), (1, 1))
+        self.assertIs(is_closed(house, (), table), True)
+        for cost in ((1, 1), (1, 2), (2, 0), (0, 9)):
+            rows = sorted(table[0] + (((2,), (2,)) + cost,))
+            self.check(put(table, 0, tuple(rows)), house, ())
 
     def test_numbers(self):
         house, rules = ONE_BY_ONE, ONE_BY_ONE_RULES
