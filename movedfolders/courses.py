@@ -2,8 +2,8 @@
 
 from movedfolders.derivations import THING, derive
 from movedfolders.ledgers import (
-    ROOT_ROW, chain_cost, chain_fault, chain_pair, cheapest_chains, is_chain, is_ledger, ledger_fault, row_costs,
-    row_pairs,
+    ROOT_ROW, chain_cost, chain_fault, chain_pair, cheapest_course, is_chain, is_ledger, ledger_fault, row_costs,
+    row_pairs, used_rows,
 )
 
 
@@ -27,25 +27,15 @@ def course_cost(house, rules, item, course):
 def used_rules(course):
     """Return the ascending tuple of the indices of the rules that a course uses."""
     ledger, chain = course
-    rows = {row: True for row in chain[::2]}
-    rules = {rule: True for rule in chain[1::2]}
-    # Rows use only rows before them, so from behind all that uses a row is known when its turn comes.
-    for k in reversed(range(len(ledger))):
-        if k in rows and ledger[k] != ROOT_ROW:
-            links = ledger[k][1]
-            rows.update({row: True for row in links[::2]})
-            rules.update({rule: True for rule in links[1::2]})
-    return tuple(sorted(rules))
+    chains = [ledger[k][1] for k in used_rows(ledger, chain) if ledger[k] != ROOT_ROW]
+    return tuple(sorted(set([rule for links in [chain] + chains for rule in links[1::2]])))
 
 
 def course_for(house, rules, item, a, b):
     """Return a course of least cost with this pair, or None if there is none."""
     found = derive(house, rules)
     key = (THING, item, a, b)
-    if key not in found:
-        return None
-    ledger, chains = cheapest_chains(found, [key])
-    return (ledger, chains[0])
+    return cheapest_course(found, key) if key in found else None
 
 
 def is_course_form(house, rules, value):

@@ -33,6 +33,11 @@ def derive(house, rules):
     return found
 
 
+def thing_costs(found):
+    """Return the least cost of each thing pair, by (item, a, b), of what was derived."""
+    return {key[1:]: found[key][0] for key in found if key[0] == THING}
+
+
 def sum_of(cost, other):
     """Return the sum of two costs, part by part."""
     return (cost[0] + other[0], cost[1] + other[1])

@@ -16,7 +16,7 @@ def require_house(value):
     if not _is_frame(value):
         raise InvalidHouse(None)
     sizes, begin, kinds = value
-    if not _are_sizes(sizes):
+    if not are_sizes(sizes):
         raise InvalidHouse(("sizes",))
     if not is_content(sizes, begin):
         raise InvalidHouse(("begin",))
@@ -32,6 +32,18 @@ def contents(house):
     for size in house[0]:
         found = [head + (value,) for head in found for value in range(size)]
     return tuple(found)
+
+
+def are_sizes(value):
+    """Tell whether any value is the sizes of the cells of a house."""
+    if not isinstance(value, tuple) or not 1 <= len(value) <= MOST_CELLS:
+        return False
+    many = 1
+    for size in value:
+        if not is_integer(size) or not LEAST_SIZE <= size <= MOST_SIZE:
+            return False
+        many = many * size
+    return many <= MOST_CONTENTS
 
 
 def is_content(sizes, value):
@@ -62,17 +74,6 @@ def _is_frame(value):
     if not isinstance(value, tuple) or len(value) != 3:
         return False
     return isinstance(value[2], tuple) and 1 <= len(value[2]) <= MOST_KINDS
-
-
-def _are_sizes(value):
-    if not isinstance(value, tuple) or not 1 <= len(value) <= MOST_CELLS:
-        return False
-    many = 1
-    for size in value:
-        if not is_integer(size) or not LEAST_SIZE <= size <= MOST_SIZE:
-            return False
-        many = many * size
-    return many <= MOST_CONTENTS
 
 
 def _is_step(sizes, value):

@@ -95,7 +95,27 @@ def cheapest_chains(found, keys):
     places = [key for key in found if key in needed]
     numbers = {key: k for k, key in enumerate(places)}
     ledger = [_row_of(found, numbers, key) for key in places]
-    return (tuple(ledger), tuple([_numbered(numbers, one) for one in links]))
+    # A ledger has a row even where no chain asks for one.
+    return (tuple(ledger) or (ROOT_ROW,), tuple([_numbered(numbers, one) for one in links]))
+
+
+def cheapest_course(found, key):
+    """Return a course of least cost for the key of a thing pair, by what was derived."""
+    ledger, chains = cheapest_chains(found, [key])
+    return (ledger, chains[0])
+
+
+def used_rows(ledger, chain):
+    """Return the list of the indices of all rows that a chain uses, directly or through others, the last one first."""
+    used = {row: True for row in chain[::2]}
+    found = []
+    # Rows use only rows before them, so from behind all that uses a row is known when its turn comes.
+    for k in reversed(range(len(ledger))):
+        if k in used:
+            found.append(k)
+            if ledger[k] != ROOT_ROW:
+                used.update({row: True for row in ledger[k][1][::2]})
+    return found
 
 
 def _is_row(house, rules, k, value):

@@ -22,6 +22,11 @@ def is_item(house, value):
     return is_index(value, len(house[2]) + 1)
 
 
+def is_folder(house, item):
+    """Tell whether an item is a folder, and not the leaf."""
+    return item < len(house[2])
+
+
 def letting_rule(rules, item, start, end):
     """Return the least index of a rule that lets an item go from one content to another, or None."""
     for index, (mover, starts, ends) in enumerate(rules):

@@ -9,8 +9,7 @@ from movedfolders.rules import is_item
 
 def least_table(house, rules):
     """Return the table of all pairs that there are, each with its least cost."""
-    found = derive(house, rules)
-    return (_rows(found, PLACE), _rows(found, MOVED), _rows(found, THING))
+    return table_of(derive(house, rules))
 
 
 def fewest(house, rules, item, a, b):
@@ -25,6 +24,16 @@ def is_closed(house, rules, value):
     return is_table(house, value) and table_fault(house, rules, value) is None
 
 
+def table_of(found):
+    """Return the least table by what was derived."""
+    return (_rows(found, PLACE), _rows(found, MOVED), _rows(found, THING))
+
+
+def costs_of(rows):
+    """Return the cost of each row of a table, by what stands ahead of its cost."""
+    return {row[:-2]: row[-2:] for row in rows}
+
+
 def is_table(house, value):
     """Tell whether any value has the form of a table; it may still not be closed."""
     if not isinstance(value, tuple) or len(value) != 3:
@@ -35,7 +44,7 @@ def is_table(house, value):
 
 def table_fault(house, rules, table):
     """Return the first demand of a closed table that is not met, or None; see point 18."""
-    places, moved, things = _costs(table[0]), _costs(table[1]), _costs(table[2])
+    places, moved, things = costs_of(table[0]), costs_of(table[1]), costs_of(table[2])
     return (
         _start_fault(house, places)
         or _thing_fault(house, places, things)
@@ -81,11 +90,6 @@ def _is_item_row(house, value):
 
 def _ascend(keys):
     return all([low < high for low, high in zip(keys, keys[1:])])
-
-
-def _costs(rows):
-    """Return the cost of each row by what stands ahead of its cost."""
-    return {row[:-2]: row[-2:] for row in rows}
 
 
 def _is_missing(costs, key, most):

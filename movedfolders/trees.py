@@ -3,7 +3,7 @@
 from movedfolders.errors import InvalidTree
 from movedfolders.integers import is_index
 from movedfolders.kinds import made_by
-from movedfolders.rules import is_item, letting_rule
+from movedfolders.rules import is_folder, is_item, letting_rule
 
 MOST_THINGS = 200
 ROOT = -1
@@ -17,7 +17,7 @@ def require_tree(house, value):
         if not _is_thing(house, len(value), pair):
             raise InvalidTree(index)
     for index, (_, above) in enumerate(value):
-        if above != ROOT and not _is_folder(house, value[above][0]):
+        if above != ROOT and not is_folder(house, value[above][0]):
             raise InvalidTree(index)
     reached = set(_from_root_down(value))
     for index in range(len(value)):
@@ -59,7 +59,7 @@ def place_contents(house, tree):
     places = {ROOT: house[1]}
     for thing in _from_root_down(tree):
         item, above = tree[thing]
-        if _is_folder(house, item):
+        if is_folder(house, item):
             places[thing] = made_by(house, item, places[above])
     return places
 
@@ -73,16 +73,17 @@ def path_of(tree, place):
     return tuple(path[::-1])
 
 
+def path_items(tree, thing):
+    """Return the tuple of the items of a thing's path, from the root down."""
+    return tuple([tree[place][0] for place in path_of(tree, thing)])
+
+
 def _is_thing(house, many, value):
     """Tell whether any value is a pair of an item and an above, in a tree of so many things."""
     if not isinstance(value, tuple) or len(value) != 2:
         return False
     item, above = value
     return is_item(house, item) and (above == ROOT or is_index(above, many))
-
-
-def _is_folder(house, item):
-    return item < len(house[2])
 
 
 def _from_root_down(tree):

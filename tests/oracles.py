@@ -209,3 +209,75 @@ def used_in(course):
         return found
 
     return tuple(sorted(used(chain)))
+
+
+# Point 12: unfolding.
+
+def unfolded_fault(house, rules, item, course, answer):
+    """Return what is wrong with an answer of unfold, or None."""
+    tree, thing, moves = answer
+    (a, b), cost = judged_course(house, rules, item, course)
+    if (len(moves), len(tree) - 1) != cost:
+        return "cost"
+    if tree[thing][0] != item or content_of(house, tree, thing) != a:
+        return "thing"
+    for mover, target in moves:
+        if not is_let(house, rules, tree, mover, target):
+            return "move"
+        tree = moved(tree, mover, target)
+    return None if content_of(house, tree, thing) == b else "end"
+
+
+# Point 13: forecasts.
+
+def forecast_of(house, rules, tree, thing):
+    """Return the forecast as a dict, by the words of point 13."""
+    return levels_of(house, rules, least_costs(house, rules)[1], tree, thing)
+
+
+def levels_of(house, rules, pairs, tree, thing):
+    """Return the cost of each content that a thing has, by costs of (item, d, e)."""
+    place = {house[1]: (0, 0)}
+    for one in reversed(above_all(tree, thing)):
+        item = tree[one][0]
+        level = dict(place)
+        changed = True
+        while changed:
+            changed = False
+            for z, cost in list(level.items()):
+                for mover, froms, to in rules:
+                    for (i, d, e), more in pairs.items():
+                        if mover == item == i and z in froms and d in to:
+                            asked = plus(plus(cost, more), (1, 0))
+                            if e not in level or asked < level[e]:
+                                level[e] = asked
+                                changed = True
+        place = {}
+        for content, cost in level.items():
+            if item < len(house[2]):
+                made = after(house, content, (item,))
+                place[made] = min(cost, place.get(made, cost))
+    return level
+
+
+# Points 14 and 15: tasks and withdrawals.
+
+def is_met(house, rules, task, withdrawal):
+    """Tell whether a withdrawal is good, by the thing pairs of the rules that are left."""
+    left = tuple(rule for index, rule in enumerate(rules) if index not in withdrawal)
+    pairs = least_costs(house, left)[1]
+    leaks, wishes, _ = task
+    for item, starts, seen in leaks:
+        if any((item, a, b) in pairs for a in starts for b in seen):
+            return False
+    return all(wish in pairs for wish in wishes)
+
+
+def withdrawals_of(rules):
+    """Return all withdrawals, as tuples ascend."""
+    many = len(rules)
+    return sorted(tuple(k for k in range(many) if number >> k & 1) for number in range(2 ** many))
+
+
+def price_of(task, withdrawal):
+    return sum(task[2][index] for index in withdrawal)

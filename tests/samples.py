@@ -4,6 +4,7 @@ import itertools
 import random
 
 from movedfolders.houses import contents
+from movedfolders.pairs import thing_pairs
 from tests.support import HOUSE, RULES, TWO, put
 
 # The document's house in which pairs do not join.
@@ -98,6 +99,24 @@ def renumbered(tree, order):
     for k, (item, above) in enumerate(tree):
         found[order[k]] = (item, above if above == -1 else order[above])
     return tuple(found)
+
+
+def random_task(rng, house, rules):
+    """Return a task of at most three leaks and three wishes, most of them about pairs that come about by moves."""
+    known, items = contents(house), range(len(house[2]) + 1)
+    pairs = [(item,) + pair for item in items for pair in thing_pairs(house, rules, item) if pair[0] != pair[1]]
+
+    def one():
+        if pairs and rng.random() < 0.9:
+            return rng.choice(pairs)
+        return (rng.choice(items), rng.choice(known), rng.choice(known))
+
+    def some(content):
+        return tuple(sorted({content} | set(rng.sample(known, rng.choice((0, 0, 1))))))
+
+    leaks = tuple((item, some(a), some(b)) for item, a, b in [one() for _ in range(rng.randrange(4))])
+    wishes = tuple(one() for _ in range(rng.choice((0, 0, 1, 1, 2, 3))))
+    return (leaks, wishes, tuple(rng.choice((0, 1, 1, 2, 7, 99)) for _ in rules))
 
 
 def places_in(value, at=()):

@@ -63,6 +63,41 @@ COURSES = '''
     (((0,), (2,)), (1, 2), (0,))
 '''
 
+UNFOLDING = '''
+    >>> from movedfolders.unfolding import unfold
+    >>> shut, team, wide = (("set", 0, 0),), (("raise", 0, 1),), (("when", 0, 1, 1, ("set", 0, 2)),)
+    >>> house, rules = ((3,), (0,), (shut, team, wide)), ((2, ((0,),), ((1,),)),)
+    >>> tree, thing, moves = unfold(house, rules, 3, ((("root",), (1, (0,)), (2, (0, 0, 1))), (2,)))
+    >>> (len(tree), len(moves))
+    (3, 1)
+'''
+
+FORECASTS = '''
+    >>> from movedfolders.forecasts import forecast
+    >>> shut, team, wide = (("set", 0, 0),), (("raise", 0, 1),), (("when", 0, 1, 1, ("set", 0, 2)),)
+    >>> house, rules = ((3,), (0,), (shut, team, wide)), ((2, ((0,),), ((1,),)),)
+    >>> tree = ((0, -1), (1, -1), (2, 0), (3, 2))
+    >>> (forecast(house, rules, tree, 2), forecast(house, rules, tree, 1))
+    ((((0,), 0, 0), ((1,), 1, 1), ((2,), 2, 3)), (((0,), 0, 0),))
+'''
+
+TASKS = '''
+    >>> from movedfolders.tasks import is_safe, keeps
+    >>> shut, team, wide = (("set", 0, 0),), (("raise", 0, 1),), (("when", 0, 1, 1, ("set", 0, 2)),)
+    >>> house, rules = ((3,), (0,), (shut, team, wide)), ((2, ((0,),), ((1,),)),)
+    >>> (is_safe(house, rules, (3, ((0,),), ((2,),))), keeps(house, rules, (2, (0,), (1,))))
+    (False, True)
+'''
+
+WITHDRAWALS = '''
+    >>> from movedfolders.withdrawals import cheapest, least_price
+    >>> shut, team, wide = (("set", 0, 0),), (("raise", 0, 1),), (("when", 0, 1, 1, ("set", 0, 2)),)
+    >>> house, rules = ((3,), (0,), (shut, team, wide)), ((2, ((0,),), ((1,),)),)
+    >>> leaks = ((3, ((0,),), ((2,),)),)
+    >>> (least_price(house, rules, (leaks, (), (5,))), cheapest(house, rules, (leaks, ((2, (0,), (1,)),), (5,))))
+    (5, None)
+'''
+
 
 class Examples(unittest.TestCase):
 
@@ -90,6 +125,18 @@ class Examples(unittest.TestCase):
 
     def test_courses(self):
         self.check("courses", COURSES)
+
+    def test_unfolding(self):
+        self.check("unfolding", UNFOLDING)
+
+    def test_forecasts(self):
+        self.check("forecasts", FORECASTS)
+
+    def test_tasks(self):
+        self.check("tasks", TASKS)
+
+    def test_withdrawals(self):
+        self.check("withdrawals", WITHDRAWALS)
 
     def test_readme(self):
         with open(README, encoding="utf-8") as file:

@@ -6,13 +6,17 @@ import inspect
 import unittest
 
 from movedfolders.courses import course_cost, course_for, course_pair, is_course, used_rules
-from movedfolders.errors import InvalidHouse, InvalidRules, InvalidTree
+from movedfolders.errors import InvalidHouse, InvalidRules, InvalidTask, InvalidTree
+from movedfolders.forecasts import forecast
 from movedfolders.houses import contents, require_house
 from movedfolders.kinds import after, come_to, kind_table, row_to
 from movedfolders.pairs import place_pairs, thing_pairs
 from movedfolders.rules import require_rules
 from movedfolders.tables import fewest, is_closed, least_table
+from movedfolders.tasks import is_safe, keeps, require_task
 from movedfolders.trees import contents_of, let_moves, played, require_tree
+from movedfolders.unfolding import unfold
+from movedfolders.withdrawals import cheapest, is_good, least_price
 from tests.samples import STAIRS, STAIRS_RULES, TRAP, TRAP_RULES
 from tests.support import HOUSE, RULES, THREE, TWO
 
@@ -38,6 +42,14 @@ INTERFACE = (
     ("movedfolders.courses", "course_cost", ("house", "rules", "item", "course")),
     ("movedfolders.courses", "used_rules", ("course",)),
     ("movedfolders.courses", "course_for", ("house", "rules", "item", "a", "b")),
+    ("movedfolders.unfolding", "unfold", ("house", "rules", "item", "course")),
+    ("movedfolders.forecasts", "forecast", ("house", "rules", "tree", "thing")),
+    ("movedfolders.tasks", "require_task", ("house", "rules", "value")),
+    ("movedfolders.tasks", "is_safe", ("house", "rules", "leak")),
+    ("movedfolders.tasks", "keeps", ("house", "rules", "wish")),
+    ("movedfolders.withdrawals", "is_good", ("house", "rules", "task", "withdrawal")),
+    ("movedfolders.withdrawals", "least_price", ("house", "rules", "task")),
+    ("movedfolders.withdrawals", "cheapest", ("house", "rules", "task")),
 )
 
 SOME_RULES = (
@@ -53,16 +65,39 @@ TREE = ((2, 2), (0, -1), (1, 1), (0, 2), (2, 1))
 
 def calls(house, rules):
     """Return calls for a house and rules, each as (function, arguments by name)."""
-    return house_calls(house, rules) + tree_calls(house, rules) + pair_calls(house, rules)
+    return house_calls(house, rules) + tree_calls(house, rules) + pair_calls(house, rules) + task_calls(house, rules)
+
+
+def tree_of(house):
+    return tuple((min(item, len(house[2])), above) for item, above in TREE)
+
+
+def task_of(house, rules):
+    """Return a task with a leak and a wish about the first and the last content."""
+    first, last = contents(house)[0], contents(house)[-1]
+    return (((len(house[2]), (first,), (last,)),), ((0, last, last),), tuple(range(len(rules))))
+
+
+def task_calls(house, rules):
+    both = {"house": house, "rules": rules}
+    found = []
+    task = task_of(house, rules)
+    for one in (task, ((), (), task[2]), (task[0], (), task[2]), ((), task[1], task[2])):
+        some = {**both, "task": one}
+        found += [(require_task, {**both, "value": one}), (least_price, some), (cheapest, some)]
+        for withdrawal in ((), tuple(range(len(rules))), tuple(range(len(rules)))[1:]):
+            found.append((is_good, {**some, "withdrawal": withdrawal}))
+    return found + [(is_safe, {**both, "leak": task[0][0]}), (keeps, {**both, "wish": task[1][0]})]
 
 
 def tree_calls(house, rules):
-    tree = tuple((min(item, len(house[2])), above) for item, above in TREE)
+    tree = tree_of(house)
     both = {"house": house, "rules": rules, "tree": tree}
     found = [
         (require_tree, {"house": house, "value": tree}), (contents_of, {"house": house, "tree": tree}),
         (let_moves, both), (played, {**both, "moves": ()}), (played, {**both, "moves": ((0, -2),)}),
     ]
+    found += [(forecast, {**both, "thing": thing}) for thing in range(len(tree))]
     return found + [(played, {**both, "moves": (move,)}) for move in let_moves(house, rules, tree)]
 
 
@@ -87,7 +122,7 @@ def course_calls(some, a, b):
         found.append((is_course, {**some, "value": value}))
     if course is not None:
         found += [(course_pair, {**some, "course": course}), (course_cost, {**some, "course": course})]
-        found.append((used_rules, {"course": course}))
+        found += [(used_rules, {"course": course}), (unfold, {**some, "course": course})]
     return found
 
 
@@ -136,6 +171,9 @@ class AllCalls(unittest.TestCase):
         with self.assertRaises(InvalidTree) as caught:
             require_tree(value=[TREE], house=HOUSE)
         self.assertIsNone(caught.exception.index)
+        with self.assertRaises(InvalidTask) as caught:
+            require_task(value=[], rules=RULES, house=HOUSE)
+        self.assertIsNone(caught.exception.part)
 
     def test_arguments_are_unchanged(self):
         for house, rules in SOME_RULES:

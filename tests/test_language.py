@@ -130,6 +130,8 @@ class Language(unittest.TestCase):
                     decorators = [ast.unparse(one) for one in node.decorator_list]
                     self.assertEqual(decorators, [], (name, node.name))
             code = re.sub(r'"""[^"]*"""|#[^\n]*', "", text)
+            # A fault of the document has this word; as a name it is barred.
+            code = code.replace('"open"', "")
             self.assertEqual([w for w in re.findall(r"[A-Za-z_][A-Za-z0-9_]*", code) if w in WORDS], [], name)
 
     def test_narrow_rules(self):
@@ -141,7 +143,9 @@ class Language(unittest.TestCase):
                 # Neither may stand beside what the document asks of a drive: its len, its in and its add.
                 self.assertNotIsInstance(node, ast.GeneratorExp, at)
                 if isinstance(node, ast.Attribute):
-                    self.assertNotIn(node.attr, ("add", "discard", "sort", "format", "format_map", "mro"), at)
+                    self.assertNotIn(node.attr, ("discard", "sort", "format", "format_map", "mro"), at)
+                    if node.attr == "add":
+                        self.assertEqual(node.value.id, "self", at)
                 if isinstance(node, ast.Constant) and isinstance(node.value, str):
                     self.assertNotIn("%", node.value, at)
 
