@@ -120,8 +120,8 @@ def is_content(value, known):
     return value.__class__ is tuple and all(x.__class__ is int for x in value) and value in known
 
 
-def all_table_faults(house, rules, table):
-    """Return all faults of what has the form of a table, in the order of point 18."""
+def all_table_faults(house, rules, table, left=range(6)):
+    """Return all faults of what has the form of a table, in the order of point 18, by the rules that are left."""
     places, just_moved, things = table
     costs = [{row[:-2]: row[-2:] for row in part} for part in table]
     firsts = {row[:2] for row in things}
@@ -139,7 +139,7 @@ def all_table_faults(house, rules, table):
     for k, (i, a, z, *cost) in enumerate(things):
         for r, (item, froms, to) in enumerate(rules):
             for c, d in enumerate(to):
-                if item == i and z in froms and (i, d) in firsts:
+                if r in left and item == i and z in froms and (i, d) in firsts:
                     if lacks(1, (i, a, d), plus(cost, (1, 0))):
                         found.append(("move", k, r, c))
     for k, (i, a, d, *cost) in enumerate(just_moved):

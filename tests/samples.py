@@ -165,5 +165,19 @@ def disturbed(rng, value, times=1):
     return value
 
 
+def nudged(rng, value, many=3):
+    """Return a value with a number somewhere in it made a little greater or less, or one part left out."""
+    ways = places_in(value)
+    numbers = [way for way in ways if part_at(value, way).__class__ is int]
+    longer = [way for way in ways if isinstance(part_at(value, way), tuple) and part_at(value, way)]
+    if numbers and (rng.random() < 0.7 or not longer):
+        return exchanged(value, rng.choice(numbers), lambda n: rng.choice((n + 1, max(n - 1, 0), rng.randrange(many))))
+    if not longer:
+        return value
+    at = rng.choice(longer)
+    k = rng.randrange(len(part_at(value, at)))
+    return exchanged(value, at, lambda some: some[:k] + some[k + 1:])
+
+
 def all_subsets(values):
     return [some for many in range(len(values) + 1) for some in itertools.combinations(values, many)]
