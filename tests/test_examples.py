@@ -98,6 +98,42 @@ WITHDRAWALS = '''
     (5, None)
 '''
 
+CLAIMS = '''
+    >>> from movedfolders.claims import decide
+    >>> shut, team, wide = (("set", 0, 0),), (("raise", 0, 1),), (("when", 0, 1, 1, ("set", 0, 2)),)
+    >>> house, rules = ((3,), (0,), (shut, team, wide)), ((2, ((0,),), ((1,),)),)
+    >>> tree = ((0, -1), (1, -1), (2, 0), (3, 2))
+    >>> (decide(house, ("can", rules, 3, (0,), (1,)))[0], decide(house, ("never", rules, tree, 1, ((2,),)))[0])
+    ('broken', 'shown')
+'''
+
+CHECKER = '''
+    >>> from movedfolders.checker import first_fault
+    >>> shut, team, wide = (("set", 0, 0),), (("raise", 0, 1),), (("when", 0, 1, 1, ("set", 0, 2)),)
+    >>> house, rules = ((3,), (0,), (shut, team, wide)), ((2, ((0,),), ((1,),)),)
+    >>> first_fault(house, ("shown", ("can", rules, 3, (0,), (1,)), ((("root",), (1, (0,)), (2, (0, 0, 1))), (2,))))
+    ('pair',)
+'''
+
+DRIVES = '''
+    >>> from movedfolders.drives import Drive
+    >>> shut, team, wide = (("set", 0, 0),), (("raise", 0, 1),), (("when", 0, 1, 1, ("set", 0, 2)),)
+    >>> house, rules = ((3,), (0,), (shut, team, wide)), ((2, ((0,),), ((1,),)),)
+    >>> drive = Drive(house, rules)
+    >>> numbers = [drive.add(1), drive.add(2), drive.add(3, 1)]
+    >>> (numbers, drive.fewest(2, (2,)), drive.move(1, 0), drive.content(2))
+    ([0, 1, 2], (1, 1), 0, (2,))
+'''
+
+TEXTS = r'''
+    >>> from movedfolders.texts import format_house, format_rules, format_tree
+    >>> shut, team, wide = (("set", 0, 0),), (("raise", 0, 1),), (("when", 0, 1, 1, ("set", 0, 2)),)
+    >>> house, rules = ((3,), (0,), (shut, team, wide)), ((2, ((0,),), ((1,),)),)
+    >>> tree = ((0, -1), (1, -1), (2, 0), (3, 2))
+    >>> (format_house(house), format_rules(rules), format_tree(tree))
+    ('cells 3\nbegin 0\nkind\nset 0 0\nkind\nraise 0 1\nkind\nwhen 0 1 1 set 0 2\n', 'rule 2\nfrom 0\nto 1\n', 'thing 0 in root\nthing 1 in root\nthing 2 in 0\nthing 3 in 2\n')
+'''
+
 
 class Examples(unittest.TestCase):
 
@@ -137,6 +173,18 @@ class Examples(unittest.TestCase):
 
     def test_withdrawals(self):
         self.check("withdrawals", WITHDRAWALS)
+
+    def test_claims(self):
+        self.check("claims", CLAIMS)
+
+    def test_checker(self):
+        self.check("checker", CHECKER)
+
+    def test_drives(self):
+        self.check("drives", DRIVES)
+
+    def test_texts(self):
+        self.check("texts", TEXTS)
 
     def test_readme(self):
         with open(README, encoding="utf-8") as file:

@@ -5,8 +5,11 @@ import importlib
 import inspect
 import unittest
 
+from movedfolders.checker import first_fault
+from movedfolders.claims import decide, require_claim
 from movedfolders.courses import course_cost, course_for, course_pair, is_course, used_rules
-from movedfolders.errors import InvalidHouse, InvalidRules, InvalidTask, InvalidTree
+from movedfolders.drives import Drive
+from movedfolders.errors import InvalidClaim, InvalidHouse, InvalidRules, InvalidTask, InvalidTree, ParseError
 from movedfolders.forecasts import forecast
 from movedfolders.houses import contents, require_house
 from movedfolders.kinds import after, come_to, kind_table, row_to
@@ -14,6 +17,7 @@ from movedfolders.pairs import place_pairs, thing_pairs
 from movedfolders.rules import require_rules
 from movedfolders.tables import fewest, is_closed, least_table
 from movedfolders.tasks import is_safe, keeps, require_task
+from movedfolders.texts import format_house, format_rules, format_tree, parse_house, parse_rules, parse_tree
 from movedfolders.trees import contents_of, let_moves, played, require_tree
 from movedfolders.unfolding import unfold
 from movedfolders.withdrawals import cheapest, is_good, least_price
@@ -50,7 +54,26 @@ INTERFACE = (
     ("movedfolders.withdrawals", "is_good", ("house", "rules", "task", "withdrawal")),
     ("movedfolders.withdrawals", "least_price", ("house", "rules", "task")),
     ("movedfolders.withdrawals", "cheapest", ("house", "rules", "task")),
+    ("movedfolders.claims", "require_claim", ("house", "claim")),
+    ("movedfolders.claims", "decide", ("house", "claim")),
+    ("movedfolders.checker", "first_fault", ("house", "certificate")),
+    ("movedfolders.texts", "format_house", ("house",)),
+    ("movedfolders.texts", "format_rules", ("rules",)),
+    ("movedfolders.texts", "format_tree", ("tree",)),
+    ("movedfolders.texts", "parse_house", ("text",)),
+    ("movedfolders.texts", "parse_rules", ("text", "house")),
+    ("movedfolders.texts", "parse_tree", ("text", "house")),
 )
+
+METHODS = {
+    "__init__": ("house", "rules"), "__len__": (), "__contains__": ("number",), "add": ("item", "above"), "drop": ("thing",),
+    "move": ("thing", "target"), "perform": ("deeds",), "things": (), "item": ("thing",), "above": ("thing",),
+    "content": ("thing",), "inside": ("thing",), "path": ("thing",), "below": ("thing",), "house": (), "rules": (),
+    "snapshot": (), "forecast": ("thing",), "fewest": ("thing", "content"), "plan": ("thing", "content"),
+    "set_rules": ("rules",), "set_kind": ("index", "kind"), "checkpoint": (), "restore": ("number",),
+    "guard": ("thing", "contents"), "guards": (), "guarded": ("number",), "holding": ("number",), "decide": ("claim",),
+    "record": ("claim",), "records": (), "recorded": ("number",), "standing": ("number",),
+}
 
 SOME_RULES = (
     (HOUSE, RULES),
@@ -65,7 +88,10 @@ TREE = ((2, 2), (0, -1), (1, 1), (0, 2), (2, 1))
 
 def calls(house, rules):
     """Return calls for a house and rules, each as (function, arguments by name)."""
-    return house_calls(house, rules) + tree_calls(house, rules) + pair_calls(house, rules) + task_calls(house, rules)
+    return (
+        house_calls(house, rules) + tree_calls(house, rules) + pair_calls(house, rules) + task_calls(house, rules)
+        + claim_calls(house, rules) + text_calls(house, rules)
+    )
 
 
 def tree_of(house):
@@ -76,6 +102,64 @@ def task_of(house, rules):
     """Return a task with a leak and a wish about the first and the last content."""
     first, last = contents(house)[0], contents(house)[-1]
     return (((len(house[2]), (first,), (last,)),), ((0, last, last),), tuple(range(len(rules))))
+
+
+def claims_of(house, rules):
+    first, last = contents(house)[0], contents(house)[-1]
+    item, tree, task = len(house[2]), tree_of(house), task_of(house, rules)
+    return [
+        ("can", rules, item, first, last), ("least", rules, 0, first, first, 1), ("safe", rules, task[0][0]),
+        ("pairs", rules, item, ((first, first), (last, last))), ("comes", rules, tree, 0, last, 1),
+        ("never", rules, tree, 1, (first,)), ("withdraw", rules, task, 3), ("lost", rules, task),
+    ]
+
+
+def claim_calls(house, rules):
+    found = []
+    for claim in claims_of(house, rules):
+        some = {"house": house, "claim": claim}
+        word, _, paper = decide(house, claim)
+        found += [(require_claim, some), (decide, some)]
+        for value in ((word, claim, paper), ("broken", claim, paper), ("shown", claim, ()), [word], (word, [], paper)):
+            found.append((first_fault, {"house": house, "certificate": value}))
+    return found
+
+
+def text_calls(house, rules):
+    tree = tree_of(house)
+    return [
+        (format_house, {"house": house}), (format_rules, {"rules": rules}), (format_tree, {"tree": tree}),
+        (parse_house, {"text": format_house(house)}), (parse_rules, {"text": format_rules(rules), "house": house}),
+        (parse_tree, {"text": format_tree(tree), "house": house}),
+    ]
+
+
+def drive_calls(house, rules):
+    """Return calls of methods, each as (name, arguments by name), in an order in which a drive can be asked."""
+    first, tree = contents(house)[0], tree_of(house)
+    found = [
+        ("add", {"item": 0, "above": -1}), ("add", {"item": 0, "above": 0}), ("add", {"item": len(house[2]), "above": 1}),
+        ("checkpoint", {}), ("perform", {"deeds": (("add", 0, 1), ("drop", 3))}), ("set_rules", {"rules": rules}),
+        ("set_kind", {"index": 0, "kind": house[2][0]}), ("things", {}), ("house", {}), ("rules", {}), ("snapshot", {}),
+        ("guards", {}), ("records", {}), ("decide", {"claim": ("can", rules, 0, first, first)}),
+        ("record", {"claim": ("never", rules, tree, 0, (first,))}), ("recorded", {"number": 0}), ("standing", {"number": 0}),
+    ]
+    for thing in range(2):
+        for name in ("item", "above", "content", "inside", "path", "below", "forecast"):
+            found.append((name, {"thing": thing}))
+        found += [(name, {"thing": thing, "content": first}) for name in ("fewest", "plan")]
+    now = drive_with(house, rules).content(0)
+    every = ((0, tuple([now]), tuple([now])),)
+    found += [("set_rules", {"rules": every}), ("move", {"thing": 0, "target": -1}), ("set_rules", {"rules": ()})]
+    others = tuple(content for content in contents(house) if content != now)
+    found += [("guard", {"thing": 0, "contents": others}), ("guarded", {"number": 0}), ("holding", {"number": 0})]
+    return found + [("drop", {"thing": 2}), ("restore", {"number": 0}), ("things", {})]
+
+
+def drive_with(house, rules):
+    drive = Drive(house, rules)
+    drive.add(0)
+    return drive
 
 
 def task_calls(house, rules):
@@ -153,6 +237,27 @@ class AllCalls(unittest.TestCase):
             self.assertEqual(told.__module__, module)
             self.assertEqual(tuple(inspect.signature(told).parameters), parameters)
 
+    def test_methods_defined_in_the_class_itself(self):
+        self.assertEqual(Drive.__module__, "movedfolders.drives")
+        for name, parameters in METHODS.items():
+            self.assertIn(name, vars(Drive))
+            self.assertEqual(tuple(inspect.signature(vars(Drive)[name]).parameters)[1:], parameters, name)
+
+    def test_methods_by_position_and_by_name(self):
+        for house, rules in SOME_RULES:
+            drives = [Drive(house, rules), Drive(house=house, rules=rules), Drive(rules=rules, house=house)]
+            asked = []
+            for name, arguments in drive_calls(house, rules):
+                asked.append(name)
+                backwards = dict(reversed(list(arguments.items())))
+                before = copy.deepcopy(arguments)
+                wanted = getattr(drives[0], name)(*arguments.values())
+                self.assertEqual(getattr(drives[1], name)(**arguments), wanted, name)
+                self.assertEqual(getattr(drives[2], name)(**backwards), wanted, name)
+                self.assertEqual(arguments, before)
+                self.assertEqual(other_classes(wanted), set())
+            self.assertEqual(set(asked) | {"__init__", "__len__", "__contains__"}, set(METHODS))
+
     def test_by_position_and_by_name(self):
         for house, rules in SOME_RULES:
             for told, arguments in calls(house, rules):
@@ -174,6 +279,15 @@ class AllCalls(unittest.TestCase):
         with self.assertRaises(InvalidTask) as caught:
             require_task(value=[], rules=RULES, house=HOUSE)
         self.assertIsNone(caught.exception.part)
+        for told in (require_claim, decide):
+            with self.assertRaises(InvalidClaim):
+                told(claim=[], house=HOUSE)
+        with self.assertRaises(ParseError) as caught:
+            parse_house(text="cells\n")
+        self.assertEqual(caught.exception.line, 0)
+        with self.assertRaises(InvalidRules) as caught:
+            Drive(rules=[RULES], house=HOUSE)
+        self.assertIsNone(caught.exception.index)
 
     def test_arguments_are_unchanged(self):
         for house, rules in SOME_RULES:
