@@ -476,6 +476,15 @@ class OfWithdrawals(Checks):
                 "ledger", ("row", 2, ("rule", 0))))
             self.right(("broken", ("withdraw", self.rules, task, 7), ("less",) + right))
 
+    def test_a_rule_of_any_item_that_is_withdrawn(self):
+        for item in range(4):
+            rules = ((item, ((0,),), ((1,),)),) * 2
+            claim = ("lost", rules, ((), ((item, (0,), (1,)),), (1, 1)))
+            ledger = (ROOT, (1, (0,)))
+            for out, used, fault in (((1,), 0, None), ((0,), 0, ("rule", 0)), ((0, 1), 1, ("rule", 0)), ((), 1, None)):
+                wanted = None if fault is None else ("chain", 0, fault)
+                self.fault(("broken", claim, (out, (), ledger, ((0, used, 1),))), wanted)
+
     def test_ledger_and_chains(self):
         ledger = (ROOT, (1, (0,)), (2, (1,)))
         right = put(put(self.paper, 2, ledger), 3, ((1, 2, 2), (2,)))

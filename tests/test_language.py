@@ -56,6 +56,19 @@ def own_names(tree):
     return names + [n.id for n in ast.walk(tree) if isinstance(n, ast.Name) and isinstance(n.ctx, kinds)]
 
 
+def parents_of(tree):
+    return {child: node for node in ast.walk(tree) for child in ast.iter_child_nodes(node)}
+
+
+def is_iterator_call(node):
+    """Tell whether a node calls what must be iterated at once."""
+    if not isinstance(node, ast.Call):
+        return False
+    if isinstance(node.func, ast.Name):
+        return node.func.id in ("range", "zip", "enumerate", "reversed")
+    return isinstance(node.func, ast.Attribute) and node.func.attr in ("items", "keys", "values")
+
+
 class Language(unittest.TestCase):
 
     def setUp(self):
@@ -133,6 +146,57 @@ class Language(unittest.TestCase):
             # A fault of the document has this word; as a name it is barred.
             code = code.replace('"open"', "")
             self.assertEqual([w for w in re.findall(r"[A-Za-z_][A-Za-z0-9_]*", code) if w in WORDS], [], name)
+
+    def test_iterated_at_once(self):
+        takers = ("list", "tuple", "dict", "sorted", "sum", "any", "all", "enumerate", "zip", "min", "max")
+        for name, _, tree in self.files:
+            parents = parents_of(tree)
+            for node in ast.walk(tree):
+                if not is_iterator_call(node):
+                    continue
+                above = parents[node]
+                at = (name, node.lineno)
+                if isinstance(above, ast.Assign):
+                    # A range, and nothing else here, may be kept under a plain name.
+                    self.assertEqual((node.func.id, above.targets[0].__class__), ("range", ast.Name), at)
+                elif isinstance(above, (ast.For, ast.comprehension)):
+                    self.assertIs(above.iter, node, at)
+                elif isinstance(above, ast.Compare):
+                    self.assertEqual(node.func.id, "range", at)
+                    self.assertIsInstance(above.ops[0], (ast.In, ast.NotIn), at)
+                else:
+                    self.assertIsInstance(above, ast.Call, at)
+                    allowed = takers + (("reversed",) if getattr(node.func, "id", "") == "range" else ())
+                    self.assertIn(getattr(above.func, "id", None), allowed, at)
+
+    def test_errors_are_own_ones_that_are_caught_by_name(self):
+        own = bound_names(ast.Module([n for n in dict(self.trees())["errors.py"].body], []))
+        for name, tree in self.trees():
+            for node in ast.walk(tree):
+                if isinstance(node, ast.ExceptHandler):
+                    caught = node.type.elts if isinstance(node.type, ast.Tuple) else [node.type]
+                    self.assertLessEqual({one.id for one in caught}, set(own), (name, node.lineno))
+                if isinstance(node, ast.Raise):
+                    self.assertIn(node.exc.func.id, own, (name, node.lineno))
+
+    def trees(self):
+        return [(name, tree) for name, _, tree in self.files]
+
+    def test_is_stars_and_tables_of_functions(self):
+        for name, tree in self.trees():
+            tables = [n for n in bound_names(tree) if n.isupper() or n.strip("_").isupper()]
+            for node in ast.walk(tree):
+                at = (name, getattr(node, "lineno", 0))
+                if isinstance(node, ast.Compare) and isinstance(node.ops[0], (ast.Is, ast.IsNot)):
+                    self.assertIn(ast.unparse(node.comparators[0]), ("None", "True", "False"), at)
+                if isinstance(node, ast.Call):
+                    for one in node.args:
+                        if isinstance(one, ast.Starred):
+                            self.assertIsInstance(one.value, ast.Name, at)
+                    # A function of a table gets a name first.
+                    self.assertFalse(isinstance(node.func, ast.Subscript), at)
+                if isinstance(node, ast.Assign) and isinstance(node.targets[0], ast.Name):
+                    self.assertFalse(isinstance(node.value, ast.Name) and node.value.id in tables, at)
 
     def test_narrow_rules(self):
         for name, _, tree in self.files:

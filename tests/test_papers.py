@@ -274,6 +274,16 @@ class Others(Papers):
             self.wrong("shown", ("withdraw", rules, task, 3), (withdrawal, (BARE,), (ROOT,), (), (), ()))
             self.wrong("shown", ("lost", rules, (task[0], (WISH,), task[2])), ((), ((0, withdrawal, BARE),)))
 
+    def test_withdrawals_by_how_many_rules_there_are(self):
+        for many in range(7):
+            rules, task = RULES * many, ((LEAK,), (), (1,) * many)
+            claim = ("lost", rules, task)
+            for index in range(8):
+                test = self.formed if index < many else self.wrong
+                test("broken", claim, ((index,), (BARE,), (ROOT,), ()))
+                test("broken", ("withdraw", rules, task, 3), ("less", (index,), (BARE,), (ROOT,), ()))
+                test("shown", ("lost", rules, (task[0], (WISH,), task[2])), ((), ((0, (index,), BARE),)))
+
     def test_other_numbers_of_tables(self):
         for leaks in range(4):
             task = ((LEAK,) * leaks, (), (5,))
