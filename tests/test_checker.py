@@ -29,7 +29,6 @@ LEAKING = ("safe", RULES, LEAK)
 PAIRS = TRUE[3]
 COMES = ("comes", RULES, TREE, 3, (2,), 1)
 NEVER = ("never", RULES, TREE, 1, ((1,), (2,)))
-WITHDRAW = ("withdraw", RULES, TASK, 5)
 LOST = ("lost", RULES, HOPELESS)
 
 # Wrong tables, each by one part, and the fault of each.
